@@ -1,0 +1,1 @@
+"""Harvest as a game against chance."""
