@@ -8,11 +8,6 @@ class Refusal(Exception):
         self.number = number
 
 
-class NoSuchCall(Refusal):
-    def __init__(self):
-        Refusal.__init__(self, -100)
-
-
 class NoGrowth(Refusal):
     def __init__(self):
         Refusal.__init__(self, -1)
@@ -38,6 +33,18 @@ class NotForThis(Refusal):
 
     def __init__(self):
         Refusal.__init__(self, -6)
+
+
+class NoCatch(Refusal):
+    """A told catch may not be made, or there is none where one is needed."""
+
+    def __init__(self):
+        Refusal.__init__(self, -7)
+
+
+class TooManySets(Refusal):
+    def __init__(self):
+        Refusal.__init__(self, -8)
 
 
 def need_range(number, first, last):

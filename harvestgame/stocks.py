@@ -1,53 +1,54 @@
 """The calls, and what each answers."""
 
+from harvestgame.blind import can_be_blind
+from harvestgame.harvest import Harvest
+from harvestgame.proofs import can_be_stayed_in
+from harvestgame.proofs import ranks_hold
 from harvestgame.reader import Reader
 from harvestgame.refusals import NoGrowth
 from harvestgame.refusals import NoRule
-from harvestgame.refusals import NoSuchCall
 from harvestgame.refusals import NotForThis
 from harvestgame.refusals import Refusal
 from harvestgame.refusals import need_list
 from harvestgame.refusals import need_range
+from harvestgame.runs import run_of_catches
+from harvestgame.runs import run_of_seasons
 from harvestgame.safety import Growth
 from harvestgame.safety import Rule
 from harvestgame.safety import harmful_season
+from harvestgame.safety import is_rising
 from harvestgame.safety import safe_catches
-from harvestgame.safety import years_of_stocks
 
 # The calls that can be done without a rule.
 WITHOUT_RULE = (0, 1, 2, 4, 18)
-
-
-class Harvest:
-    """What is held from call to call."""
-
-    def __init__(self):
-        self.growth = None
-        self.rule = None
-        self.years = None
-
-    def hold_growth(self, growth):
-        self.growth = growth
-        self.rule = None
-        self.years = None
-
-    def hold_rule(self, rule):
-        self.rule = rule
-        # Worked out here once, since many calls on one rule ask for it.
-        self.years = years_of_stocks(self.growth, rule)
-
-    def is_safe(self, stock):
-        return self.years[stock] is None
 
 
 def need_stock(harvest, stock):
     need_range(stock, 0, harvest.growth.greatest)
 
 
-def need_safe_stock(harvest, stock):
-    need_stock(harvest, stock)
-    if not harvest.is_safe(stock):
+def need_stock_list(harvest, stocks, shortest, longest):
+    need_list(stocks, shortest, longest, 0, harvest.growth.greatest)
+
+
+def need_safe(harvest, stock):
+    if not harvest.safe[stock]:
         raise NotForThis()
+
+
+def known(number):
+    """The number that was looked for; a refusal where none was found."""
+    if number is None:
+        raise NotForThis()
+    return number
+
+
+def yes_or_no(held):
+    return 1 if held else 0
+
+
+def quotas_of(harvest, stock):
+    return safe_catches(harvest.growth, harvest.rule, harvest.safe, stock)
 
 
 def answer_growth(harvest, call):
@@ -95,25 +96,27 @@ def answer_next(harvest, call):
 
 def answer_safe(harvest, call):
     stocks = harvest.growth.all_stocks()
-    return [0] + [stock for stock in stocks if harvest.is_safe(stock)]
+    return [0] + [stock for stock in stocks if harvest.safe[stock]]
 
 
 def answer_quotas(harvest, call):
     stock = call.wholes[0]
-    need_safe_stock(harvest, stock)
-    return [0] + safe_catches(harvest.growth, harvest.rule, harvest.years, stock)
+    need_stock(harvest, stock)
+    need_safe(harvest, stock)
+    return [0] + quotas_of(harvest, stock)
 
 
 def answer_most(harvest, call):
     stock = call.wholes[0]
-    need_safe_stock(harvest, stock)
-    return [max(safe_catches(harvest.growth, harvest.rule, harvest.years, stock))]
+    need_stock(harvest, stock)
+    need_safe(harvest, stock)
+    return [max(quotas_of(harvest, stock))]
 
 
 def answer_years(harvest, call):
     stock = call.wholes[0]
     need_stock(harvest, stock)
-    if harvest.is_safe(stock):
+    if harvest.safe[stock]:
         return [0]
     return [1, harvest.years[stock]]
 
@@ -123,11 +126,75 @@ def answer_harm(harvest, call):
     catch = call.wholes[1]
     need_stock(harvest, stock)
     need_range(catch, 0, stock)
-    if harvest.is_safe(stock) or stock < harvest.rule.low:
+    if harvest.safe[stock] or stock < harvest.rule.low:
         raise NotForThis()
     if not harvest.rule.may_be_made(stock, catch):
         raise NotForThis()
     return [harmful_season(harvest.growth, harvest.years, stock, catch)]
+
+
+def answer_check(harvest, call):
+    stocks = call.rows[0]
+    need_stock_list(harvest, stocks, 0, 51)
+    return [yes_or_no(can_be_stayed_in(harvest.growth, harvest.rule, stocks))]
+
+
+def answer_refute(harvest, call):
+    ranks = call.rows[0]
+    size = harvest.growth.greatest + 1
+    need_list(ranks, size, size, 0, 1000)
+    return [yes_or_no(ranks_hold(harvest.growth, harvest.rule, ranks))]
+
+
+def answer_play(harvest, call):
+    stock = call.wholes[0]
+    seasons = call.rows[0]
+    need_stock(harvest, stock)
+    need_list(seasons, 0, 200, 0, harvest.growth.season_count() - 1)
+    need_safe(harvest, stock)
+    return [0] + run_of_seasons(harvest.growth, harvest.rule, harvest.safe, stock, seasons)
+
+
+def answer_force(harvest, call):
+    stock = call.wholes[0]
+    catches = call.rows[0]
+    need_stock(harvest, stock)
+    need_stock_list(harvest, catches, 0, 200)
+    if harvest.safe[stock]:
+        raise NotForThis()
+    return [0] + run_of_catches(harvest.growth, harvest.rule, harvest.years, stock, catches)
+
+
+def answer_demand(harvest, call):
+    stock = call.wholes[0]
+    need_stock(harvest, stock)
+    return [known(harvest.demand(stock))]
+
+
+def answer_sure(harvest, call):
+    stock = call.wholes[0]
+    years = call.wholes[1]
+    need_stock(harvest, stock)
+    need_range(years, 0, 100)
+    return [known(harvest.sure_total(stock, years))]
+
+
+def answer_mean(harvest, call):
+    stock = call.wholes[0]
+    years = call.wholes[1]
+    need_stock(harvest, stock)
+    need_range(years, 0, 9)
+    return [known(harvest.mean_total(stock, years)), harvest.cases(years)]
+
+
+def answer_blind(harvest, call):
+    stocks = call.rows[0]
+    need_stock_list(harvest, stocks, 1, 51)
+    return [yes_or_no(can_be_blind(harvest.growth, harvest.rule, stocks))]
+
+
+def answer_rising(harvest, call):
+    return [yes_or_no(is_rising(harvest.growth))]
 
 
 ANSWERERS = {
@@ -141,12 +208,19 @@ ANSWERERS = {
     7: answer_most,
     8: answer_years,
     9: answer_harm,
+    10: answer_check,
+    11: answer_refute,
+    12: answer_play,
+    13: answer_force,
+    14: answer_demand,
+    15: answer_sure,
+    16: answer_mean,
+    17: answer_blind,
+    18: answer_rising,
 }
 
 
 def answer_call(harvest, call):
-    if call.number not in ANSWERERS:
-        raise NoSuchCall()
     if harvest.growth is None and call.number != 0:
         raise NoGrowth()
     if harvest.rule is None and call.number not in WITHOUT_RULE:

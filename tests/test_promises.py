@@ -1,80 +1,27 @@
-"""Points 1 and 4 of the promises, and the calls beside the words of the document."""
+"""Points 1 and 4 of the promises, and the calls 4 to 9 beside the words of the document."""
 
-import itertools
-import random
 import unittest
 
-from helper import Words, ask_many, growth, harm, most, next_stock, quotas, rule, safe, years
-
-
-def rules_up_to(n):
-    return [(low, least, top) for low in range(n + 1) for least in range(n + 1) for top in range(least, n + 1)]
-
-
-def small_games():
-    """Every growth of so few stocks and seasons, under every rule."""
-    for n, count in ((1, 1), (1, 2), (2, 1)):
-        for table in itertools.product(range(n + 1), repeat=count * (n + 1)):
-            for held in rules_up_to(n):
-                yield n, count, list(table), held
-
-
-def drawn_rule(draw, n):
-    least = draw.randint(0, n)
-    # Games in which little need be caught are those that last.
-    least = min(least, draw.randint(0, n), draw.randint(0, n))
-    return draw.randint(0, n) if draw.random() < 0.3 else draw.randint(0, n // 3), least, draw.randint(least, n)
-
-
-def drawn_table(draw, n, count):
-    """Now any stocks, now such as grow somewhat from what is left."""
-    if draw.random() < 0.4:
-        return [draw.randint(0, n) for k in range(count * (n + 1))]
-    return [max(0, min(n, e + draw.randint(-1, 3))) for c in range(count) for e in range(n + 1)]
-
-
-def drawn_games(seed, many, greatest):
-    draw = random.Random(seed)
-    for k in range(many):
-        n = draw.randint(1, greatest)
-        count = draw.randint(1, 6)
-        yield n, count, drawn_table(draw, n, count), drawn_rule(draw, n)
-
-
-def rising_games(seed, many, greatest):
-    draw = random.Random(seed)
-    for k in range(many):
-        n = draw.randint(1, greatest)
-        count = draw.randint(1, 6)
-        rows = [sorted(drawn_table(draw, n, 1)) for c in range(count)]
-        yield n, count, [stock for row in rows for stock in row], drawn_rule(draw, n)
-
-
-def wide_games():
-    """The greatest growths: caught from more slowly than they grow, and faster."""
-    slow = [min(50, e + e // 8) for e in range(51)]
-    fast = [min(50, e + e // 3) for e in range(51)]
-    still = list(range(51))
-    for held in ((5, 2, 9), (0, 1, 50), (20, 0, 50), (0, 4, 4), (50, 0, 3), (10, 50, 50), (7, 3, 5)):
-        yield 50, 2, fast + slow, held
-        yield 50, 6, fast + slow + fast + slow + fast + still, held
+from helper import Words, ask_many, drawn_games, growth, harm, most, next_stock, quotas, rising, rising_games, rule
+from helper import safe, small_games, wide_games, years
 
 
 class Game:
     """All that the program tells of one growth and rule."""
 
-    def __init__(self, n, count, table, held):
+    def __init__(self, n, weights, table, held):
         self.n = n
-        self.words = Words(n, count, table, *held)
-        self.before = [growth(n, [1 + c % 4 for c in range(count)], table), rule(*held)]
+        self.words = Words(n, weights, table, *held)
+        self.before = [growth(n, weights, table), rule(*held)]
         stocks = range(n + 1)
         pairs = [(x, q) for x in stocks for q in range(x + 1)]
         self.safe = ask_many(self.before, [safe()])[0]
+        self.rising = ask_many(self.before, [rising()])[0]
         self.quotas = ask_many(self.before, [quotas(x) for x in stocks])
         self.most = ask_many(self.before, [most(x) for x in stocks])
         self.years = ask_many(self.before, [years(x) for x in stocks])
         self.harm = dict(zip(pairs, ask_many(self.before, [harm(x, q) for x, q in pairs])))
-        triples = [(x, q, c) for x, q in pairs for c in range(count)]
+        triples = [(x, q, c) for x, q in pairs for c in range(len(weights))]
         self.next = dict(zip(triples, ask_many(self.before, [next_stock(*triple) for triple in triples])))
 
     def comes(self, x, q, c):
@@ -134,7 +81,8 @@ class GameTest(unittest.TestCase):
             self.assertTrue(all(game.words.is_end(y) for y in played))
 
     def from_one_on(self, game):
-        """Point 4, as far as safe and quotas go."""
+        """Point 4."""
+        self.assertEqual(game.rising, [1])
         stocks = game.safe[1:]
         self.assertEqual(stocks, list(range(game.n + 1 - len(stocks), game.n + 1)))
         for x in stocks:
@@ -161,12 +109,12 @@ class GameTest(unittest.TestCase):
         self.all_of(drawn_games(2, 60, 20))
 
     def test_wide_games(self):
-        self.all_of([*wide_games(), (50, 6, list(range(51)) * 6, (0, 0, 50))])
+        self.all_of([*wide_games(), (50, [1] * 6, list(range(51)) * 6, (0, 0, 50))])
 
     def test_safe_stocks_are_all_that_can_be_stayed_in(self):
-        for n, count, table, held in [*small_games(), *drawn_games(3, 300, 6)]:
-            wanted = Words(n, count, table, *held).safe_by_sets()
-            before = [growth(n, [1] * count, table), rule(*held)]
+        for n, weights, table, held in [*small_games(), *drawn_games(3, 300, 6)]:
+            wanted = Words(n, weights, table, *held).safe_by_sets()
+            before = [growth(n, weights, table), rule(*held)]
             self.assertEqual(ask_many(before, [safe()]), [[0] + wanted])
 
     def test_rising_games(self):
@@ -176,8 +124,18 @@ class GameTest(unittest.TestCase):
             self.from_one_on(game)
             some += 1 < len(game.safe) < game.n + 2
         self.assertGreater(some, 30)
-        for n, count, table, held in wide_games():
-            self.from_one_on(Game(n, count, table, held))
+        for made in wide_games():
+            self.from_one_on(Game(*made))
+
+    def test_whatever_game_rising_accepts(self):
+        accepted = 0
+        for made in [*small_games(), *drawn_games(5, 300, 5, 2)]:
+            game = Game(*made)
+            self.assertEqual(game.rising, [int(game.words.rising())])
+            if game.rising == [1]:
+                accepted += 1
+                self.from_one_on(game)
+        self.assertGreater(accepted, 100)
 
 
 if __name__ == "__main__":
