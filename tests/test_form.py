@@ -186,6 +186,64 @@ class LanguageTest(unittest.TestCase):
                 if isinstance(node, ast.Name) and isinstance(node.ctx, ast.Store):
                     self.assertNotIn(node.id, taken, path.name)
 
+    def test_python_s_own_are_called_and_not_kept(self):
+        words = {"sorted": {"key", "reverse"}, "min": {"key", "default"}, "max": {"key", "default"},
+                 "sum": {"start"}, "enumerate": {"start"}, "zip": {"strict"}}
+        for path, tree in trees():
+            called = [node.func for node in ast.walk(tree) if isinstance(node, ast.Call)]
+            named = [base for node in ast.walk(tree) if isinstance(node, ast.ClassDef) for base in node.bases]
+            named += [node.type for node in ast.walk(tree) if isinstance(node, ast.ExceptHandler)]
+            for node in ast.walk(tree):
+                if isinstance(node, ast.Name) and node.id in OWN_NAMES:
+                    self.assertTrue(any(node is other for other in called + named), f"{path.name}:{node.lineno}")
+                if isinstance(node, ast.Call):
+                    found = {keyword.arg for keyword in node.keywords}
+                    self.assertLessEqual(found, words.get(getattr(node.func, "id", ""), set()), f"{path.name}:{node.lineno}")
+
+    def test_ranges_and_their_like_are_walked_at_once(self):
+        lazy = {"range", "zip", "enumerate", "reversed", "items", "keys", "values"}
+        takers = {"list", "tuple", "dict", "sorted", "sum", "any", "all", "enumerate", "zip", "min", "max"}
+        for path, tree in trees():
+            walked_at = [node.iter for node in ast.walk(tree) if isinstance(node, (ast.For, ast.comprehension))]
+            walked_at += [
+                node.args[0] for node in ast.walk(tree)
+                if isinstance(node, ast.Call) and getattr(node.func, "id", "") in takers and node.args
+            ]
+            for node in ast.walk(tree):
+                if isinstance(node, ast.Call) and getattr(node.func, "id", getattr(node.func, "attr", "")) in lazy:
+                    self.assertTrue(any(node is other for other in walked_at), f"{path.name}:{node.lineno}")
+
+    def test_what_a_loop_walks_is_not_changed_in_it(self):
+        changing = {"append", "clear", "extend", "insert", "pop", "remove", "reverse", "setdefault", "update"}
+        for place, loop in walked():
+            if isinstance(loop, ast.For):
+                names = {ast.dump(node) for node in ast.walk(loop.iter) if isinstance(node, (ast.Name, ast.Attribute))}
+                for node in ast.walk(loop):
+                    if isinstance(node, ast.Attribute) and node.attr in changing:
+                        self.assertNotIn(ast.dump(node.value), names, place)
+                    if isinstance(node, ast.Subscript) and isinstance(node.ctx, ast.Store):
+                        self.assertNotIn(ast.dump(node.value), names, place)
+
+    def test_sets_and_powers_are_not_used(self):
+        for place, node in walked():
+            self.assertNotIn(getattr(node, "id", ""), ("set", "frozenset", "chr"), place)
+            self.assertNotIsInstance(node, ast.Pow, place)
+
+    def test_what_stands_at_the_top_is_only_read(self):
+        for path, tree in trees():
+            kept = {node.targets[0].id for node in tree.body if isinstance(node, ast.Assign)}
+            read = [node.value for node in ast.walk(tree) if isinstance(node, ast.Subscript)]
+            read += [other for node in ast.walk(tree) if isinstance(node, ast.Compare) for other in node.comparators]
+            read += [
+                part for node in ast.walk(tree) if isinstance(node, ast.Call) and getattr(node.func, "id", "") in ("min", "max")
+                for keyword in node.keywords for part in [keyword.value]
+            ]
+            for node in ast.walk(tree):
+                if isinstance(node, ast.Name) and isinstance(node.ctx, ast.Load) and node.id in kept:
+                    self.assertTrue(any(node is other for other in read), f"{path.name}:{node.lineno}")
+                if isinstance(node, ast.Subscript) and isinstance(node.value, ast.Name) and node.value.id in kept:
+                    self.assertIsInstance(node.ctx, ast.Load, f"{path.name}:{node.lineno}")
+
     def test_methods_and_values(self):
         methods = defined_methods()
         known = methods | object_values()
